@@ -1,0 +1,1 @@
+"""Devices on a bus, and the windows through which they are reached."""

@@ -104,6 +104,22 @@ def capacity(room, size):
     return sum([held for start, held in room if held >= size])
 
 
+def block_around(room, address):
+    """Return the block of a room that has an address, or None."""
+    low = 0
+    high = len(room)
+    while low < high:
+        middle = (low + high) // 2
+        if room[middle][0] <= address:
+            low = middle + 1
+        else:
+            high = middle
+    # Now room[low] is the first block that begins behind the address.
+    if low == 0 or address >= room[low - 1][0] + room[low - 1][1]:
+        return None
+    return room[low - 1]
+
+
 # A span is a pair (low, high): the addresses from low to high - 1. The lists of
 # spans below ascend, and between two of their spans there is an address of neither.
 

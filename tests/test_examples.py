@@ -1,11 +1,26 @@
-"""The examples of the document, section 1."""
+"""The examples of the document, sections 1 to 8."""
 
 import unittest
 
+from buswindows.boards import Board, program
+from buswindows.choices import best_sizes, kept
 from buswindows.covers import widened
+from buswindows.moves import makes_room_holds, moved, staying
+from buswindows.placings import count_placings, first_placing, placing_at, reason
+from buswindows.requests import follow, reached
 from buswindows.rooms import (
     address_at, address_index, addresses_in, capacity, common, room_error, room_of, stretch, union, without,
 )
+from buswindows.trees import names_of, part_at, path_of, tree_error
+from buswindows.walking import walk
+from buswindows.windows import count_assignments, first_assignment, least_windows, refusal, wanted
+
+T = ("tree", (), (
+    ("device", "disk", (("far", 2 ** 20),)),
+    ("bridge", "east", ("strict",), (("device", "net", (("near", 4096), ("near", 16))), None)),
+))
+ROOMS = (((2 ** 32, 2 ** 21),), ((0, 16384),))
+SMALLER = (((2 ** 32, 2 ** 21),), ((0, 4096),))
 
 
 class SectionOne(unittest.TestCase):
@@ -23,6 +38,74 @@ class SectionOne(unittest.TestCase):
         R = ((0, 16), (32, 32))
         shown = [addresses_in(R), address_at(R, 20), address_index(R, 40), capacity(R, 32), widened(R, 1)]
         self.assertEqual(repr(shown), "[48, 36, 24, 32, (((0, 64),), 16)]")
+
+
+class SectionTwo(unittest.TestCase):
+    def test_placings(self):
+        shown = [reason(((0, 32), (64, 16)), (16, 16, 32)), reason(((0, 16), (32, 16)), (32,))]
+        self.assertEqual(repr(shown), "[(16, 64, 48), (32, 32, 0)]")
+        shown = [first_placing(((0, 64),), (16, 32, 16)), count_placings(((0, 64),), (16, 32, 16)),
+                 placing_at(((0, 64),), (16, 32, 16), 3)]
+        self.assertEqual(repr(shown), "[((32, 16), (0, 32), (48, 16)), 4, ((16, 16), (32, 32), (0, 16))]")
+
+
+class SectionThree(unittest.TestCase):
+    def test_trees(self):
+        shown = [tree_error(T), names_of(T), path_of(T, "net"), part_at(T, (1, 1))]
+        self.assertEqual(repr(shown), "[None, ('disk', 'east', 'net'), (1, 0), None]")
+
+
+class SectionFour(unittest.TestCase):
+    def test_windows(self):
+        shown = [least_windows(T), wanted(T, "near"), count_assignments(T, ROOMS)]
+        self.assertEqual(repr(shown), "[(('east', 0, 8192),), (8192,), 2048]")
+
+    def test_assignments(self):
+        self.assertEqual(
+            repr(first_assignment(T, ROOMS)),
+            "(('disk', ((4294967296, 1048576),)), ('east', None, (0, 8192)), ('net', ((0, 4096), (4096, 16))))")
+
+    def test_refusals(self):
+        self.assertEqual(repr(refusal(T, (((2 ** 32, 2 ** 19),), ((0, 4096),)))), "('far', (1048576, 1048576, 0))")
+
+
+class SectionFive(unittest.TestCase):
+    def test_choices(self):
+        shown = [kept(T, SMALLER, ("net", "disk")), best_sizes(T, SMALLER, (("net", 0, (4096, 2048)),))]
+        self.assertEqual(repr(shown), "[(('disk',), (('net', ('near', (8192, 8192, 0))),)), (2048,)]")
+
+
+class SectionSix(unittest.TestCase):
+    def test_requests(self):
+        A = first_assignment(T, ROOMS)
+        shown = [follow(T, A, None, 4100), follow(T, A, "net", 2 ** 32), follow(T, A, "net", 9000),
+                 reached(T, A, "net", 1)]
+        self.assertEqual(
+            repr(shown), "[(('down', 'east'), ('hit', 'net', 1)), (('up', 'east'), ('hit', 'disk', 0)), "
+            "(('up', 'east'), ('top',)), ((4096, 16),)]")
+
+
+class SectionSeven(unittest.TestCase):
+    def test_moves(self):
+        shown = [moved(((0, 64),), ((0, 16), (32, 16)), ((1, 16),)),
+                 makes_room_holds(((0, 64),), ((0, 16), (32, 16)), 32, ((1, 16),)),
+                 staying(((0, 64),), ((0, 16), (32, 16)), 32)]
+        self.assertEqual(repr(shown), "[((0, 16), (16, 16)), True, (0,)]")
+
+
+class SectionEight(unittest.TestCase):
+    def test_walking(self):
+        board = Board(T, numbers=2 ** 24 - 1)
+        shown = [board.read(0, 0, 0), board.read(0, 1, 1), board.read(0, 2, 0), walk(board.read, board.write)]
+        self.assertEqual(
+            repr(shown), "[1, 1, 4294967295, (('device', (0,), 1, ((0, 'far', 1048576),)), ('bridge', (1,), 2, 1, 1), "
+            "('device', (1, 0), 3, ((0, 'near', 4096), (1, 'near', 16))))]")
+
+    def test_program(self):
+        board = Board(T)
+        walk(board.read, board.write)
+        program(board.write, T, first_assignment(T, ROOMS))
+        self.assertIs(board.settings() == first_assignment(T, ROOMS), True)
 
 
 if __name__ == "__main__":

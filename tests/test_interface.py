@@ -3,7 +3,12 @@
 import inspect
 import unittest
 
-from buswindows import bounds, covers, errors, rooms
+from buswindows import (
+    boards, bounds, choices, covers, errors, moves, placings, requests, rooms, trees, walking, windows,
+)
+
+T = ("tree", (), (("device", "a", (("far", 16), ("near", 16))), ("bridge", "b", (), (None,))))
+ROOMS = (((2 ** 32, 32),), ((0, 16),))
 
 FUNCTIONS = {
     rooms: {
@@ -13,6 +18,36 @@ FUNCTIONS = {
         "capacity": "(room, size)",
     },
     covers: {"widened": "(room, limit)"},
+    placings: {
+        "can_place": "(room, sizes)", "reason": "(room, sizes)", "placing_holds": "(room, sizes, value)",
+        "reason_holds": "(room, sizes, value)", "first_placing": "(room, sizes)", "count_placings": "(room, sizes)",
+        "placing_at": "(room, sizes, index)", "placing_index": "(room, sizes, placing)",
+        "each_placing": "(room, sizes, *, start=0)",
+    },
+    trees: {
+        "tree_error": "(value)", "part_at": "(tree, path)", "path_of": "(tree, name)", "names_of": "(tree)",
+        "with_part": "(tree, path, part)", "only": "(tree, names)",
+    },
+    windows: {
+        "least_windows": "(tree)", "wanted": "(tree, kind)", "refusal": "(tree, rooms)",
+        "assignment_holds": "(tree, rooms, value)", "refusal_holds": "(tree, rooms, value)",
+        "first_assignment": "(tree, rooms)", "count_assignments": "(tree, rooms)",
+        "assignment_at": "(tree, rooms, index)", "assignment_index": "(tree, rooms, assignment)",
+    },
+    choices: {
+        "kept": "(tree, rooms, names)", "best_sizes": "(tree, rooms, offers)", "with_sizes": "(tree, offers, sizes)",
+    },
+    requests: {
+        "are_settings": "(tree, value)", "follow": "(tree, settings, origin, address)", "clashes": "(tree, settings)",
+        "reached": "(tree, settings, name, index)",
+    },
+    moves: {
+        "moved": "(room, standing, value)", "make_room": "(room, standing, size)",
+        "makes_room_holds": "(room, standing, size, value)", "can_stay": "(room, standing, size, value)",
+        "staying": "(room, standing, size)",
+    },
+    boards: {"program": "(write, tree, settings)", "Board": "(tree, *, numbers=0)"},
+    walking: {"walk": "(read, write)"},
 }
 
 
@@ -41,6 +76,47 @@ class Interface(unittest.TestCase):
             (rooms.capacity((), 16), int), (covers.widened(room, 1), tuple), (covers.widened((), 1), tuple),
         ):
             self.assertIs(type(value), kind)
+
+    def test_kinds_of_results_about_placings_and_trees(self):
+        room = ((0, 16), (32, 32))
+        for value, kind in (
+            (placings.can_place(room, ()), bool), (placings.reason(room, (64,)), tuple),
+            (placings.placing_holds(room, (), ()), bool), (placings.reason_holds(room, (), ()), bool),
+            (placings.first_placing(room, (16,)), tuple), (placings.placing_at(room, (16,), 0), tuple),
+            (placings.count_placings(room, ()), int), (placings.placing_index(room, (), ()), int),
+            (next(placings.each_placing(room, ())), tuple), (trees.tree_error(None), tuple),
+            (trees.part_at(T, ()), tuple),
+            (trees.path_of(T, "b"), tuple), (trees.names_of(T), tuple), (trees.with_part(T, (1, 0), None), tuple),
+            (trees.only(T, ()), tuple),
+        ):
+            self.assertIs(type(value), kind)
+
+    def test_kinds_of_results_about_assignments(self):
+        first = windows.first_assignment(T, ROOMS)
+        for value, kind in (
+            (windows.least_windows(T), tuple), (windows.wanted(T, "far"), tuple), (windows.refusal(T, ((), ())), tuple),
+            (windows.assignment_holds(T, ROOMS, ()), bool), (windows.assignment_holds(T, ROOMS, first), bool),
+            (windows.refusal_holds(T, ROOMS, ()), bool), (first, tuple), (windows.assignment_at(T, ROOMS, 1), tuple),
+            (windows.count_assignments(T, ROOMS), int), (windows.assignment_index(T, ROOMS, first), int),
+            (choices.kept(T, ROOMS, ("a",)), tuple), (choices.best_sizes(T, ROOMS, ()), tuple),
+            (choices.with_sizes(T, (), ()), tuple), (requests.are_settings(T, first), bool),
+            (requests.are_settings(T, ()), bool), (requests.follow(T, first, None, 0), tuple),
+            (requests.clashes(T, first), tuple), (requests.reached(T, first, "a", 0), tuple),
+        ):
+            self.assertIs(type(value), kind)
+
+    def test_kinds_of_results_about_moves_and_registers(self):
+        room = ((0, 64),)
+        board = boards.Board(T)
+        for value, kind in (
+            (moves.moved(room, (), ()), tuple), (moves.make_room(room, (), 64), tuple),
+            (moves.staying(room, (), 64), tuple), (moves.makes_room_holds(room, (), 64, ()), bool),
+            (moves.makes_room_holds(room, (), 64, None), bool), (moves.can_stay(room, (), 64, ()), bool),
+            (moves.can_stay(room, (), 64, None), bool), (board.read(0, 0, 0), int), (board.settings(), tuple),
+            (walking.walk(board.read, board.write), tuple),
+        ):
+            self.assertIs(type(value), kind)
+        self.assertIsNone(boards.program(board.write, T, board.settings()))
 
 
 if __name__ == "__main__":

@@ -150,6 +150,44 @@ class Language(unittest.TestCase):
         for place, node in nodes(ast.Attribute):
             self.assertNotIn(node.attr, NEVER, place)
 
+    def test_each_name_means_one_thing_in_its_file(self):
+        for name, text in files():
+            body = ast.parse(text).body
+            taken = [alias.name for node in body if isinstance(node, ast.ImportFrom) for alias in node.names]
+            taken += [node.name for node in body if isinstance(node, (ast.FunctionDef, ast.ClassDef))]
+            taken += [target.id for node in body if isinstance(node, ast.Assign) for target in node.targets]
+            self.assertEqual(len(set(taken)), len(taken), name)
+            for function in ast.walk(ast.parse(text)):
+                if isinstance(function, ast.FunctionDef):
+                    for node in ast.walk(function):
+                        bound = node.arg if isinstance(node, ast.arg) else None
+                        if isinstance(node, ast.Name) and isinstance(node.ctx, ast.Store):
+                            bound = node.id
+                        self.assertNotIn(bound, taken, f"{name}:{function.lineno}")
+
+    def test_exponents(self):
+        for place, node in nodes(ast.BinOp):
+            if isinstance(node.op, ast.Pow):
+                self.assertIsInstance(node.right, ast.Constant, place)
+                self.assertTrue(0 <= node.right.value <= 64, place)
+
+    def test_no_generator_expressions(self):
+        # any, all, sum and the like take lists, as they must where a class has __eq__ or a length.
+        for place, _ in nodes(ast.GeneratorExp):
+            self.fail(place)
+
+    def test_sets_are_written_in_sorted_or_len_alone(self):
+        def calls(node, names):
+            return isinstance(node, ast.Call) and isinstance(node.func, ast.Name) and node.func.id in names
+
+        for name, text in files():
+            walked = list(ast.walk(ast.parse(text)))
+            inner = [argument for node in walked if calls(node, ("sorted", "len")) and not node.keywords
+                     for argument in node.args]
+            for node in walked:
+                if isinstance(node, (ast.Set, ast.SetComp)) or calls(node, ("set", "frozenset")):
+                    self.assertIn(node, inner, f"{name}:{node.lineno}")
+
     def test_words_that_occur_in_no_file(self):
         for name, text in files():
             code = "\n".join(line.split("#")[0] for line in re.sub(r'"""[\s\S]*?"""', "", text).split("\n"))

@@ -4,7 +4,7 @@ from buswindows.bounds import SPACE
 from buswindows.errors import NoAddress, NoIndex
 from buswindows.rooms import common, room_of, without
 from buswindows.segments import are_rows, is_block_of, row_blocks, segment_paths
-from buswindows.trees import device_path, part_at, parts_in_order, parts_of
+from buswindows.trees import device_path, is_strict, part_at, parts_in_order, parts_of
 from buswindows.values import is_within
 
 
@@ -51,8 +51,7 @@ def _up(tree, rows, path, address):
     """Return the steps of a request that comes from the part at a path to the segment on which this stands."""
     segment = path[:-1]
     whole = part_at(tree, segment)
-    # The marks are the last but one of both a tree and a bridge.
-    if "strict" not in whole[-2]:
+    if not is_strict(whole):
         slots = [slot for slot in _claiming(tree, rows, segment, address) if slot != path[-1]]
         if len(slots) > 0:
             return _answered(tree, rows, segment, address, slots)

@@ -123,6 +123,12 @@ def parts_of(part):
     return part[-1]
 
 
+def is_strict(whole):
+    """Return whether the segment of a tree or bridge is strict."""
+    # The marks are the last but one of both.
+    return "strict" in whole[-2]
+
+
 def parts_in_order(tree):
     """Return the pairs of path and part of all devices and bridges, in preorder."""
     return _parts_below(tree, ())

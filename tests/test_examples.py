@@ -1,11 +1,15 @@
-"""The examples of the document, sections 1 to 8."""
+"""The examples of the document, sections 1 to 11."""
 
 import unittest
 
 from buswindows.boards import Board, program
+from buswindows.channels import followers, net_error, ring_holds, rising, stuck_run_holds
 from buswindows.choices import best_sizes, kept
 from buswindows.covers import widened
+from buswindows.groups import chain, groups, may_hit
+from buswindows.links import can_stick
 from buswindows.moves import makes_room_holds, moved, staying
+from buswindows.orders import forbidden
 from buswindows.placings import count_placings, first_placing, placing_at, reason
 from buswindows.requests import follow, reached
 from buswindows.rooms import (
@@ -106,6 +110,40 @@ class SectionEight(unittest.TestCase):
         walk(board.read, board.write)
         program(board.write, T, first_assignment(T, ROOMS))
         self.assertIs(board.settings() == first_assignment(T, ROOMS), True)
+
+
+class SectionNine(unittest.TestCase):
+    def test_groups(self):
+        U = ("tree", (), (("bridge", "e", ("strict",), (
+            ("device", "a", (("near", 16),)), ("device", "b", (("near", 16),)))),))
+        V = ("tree", (), (("bridge", "e", ("hiding", "strict"), (
+            ("device", "a", (("near", 16),)), ("device", "b", (("near", 16),)))),))
+        shown = [may_hit(T, "net", "disk"), may_hit(U, "a", "b"), groups(U), groups(V), chain(V, "a", "b")]
+        self.assertEqual(
+            repr(shown), "[True, False, (('a',), ('b',)), (('a', 'b'),), (('hiding', 'a', 'b', 'e'),)]")
+
+
+class SectionTen(unittest.TestCase):
+    def test_channels(self):
+        N = (3, ((0, 1), (1, 2), (2, 0)), ((None, 0, 0), (1, None, 1), (2, 2, None)))
+        shown = [net_error(N), followers(N), rising(N), ring_holds(N, ((0, 2), (1, 0), (2, 1))),
+                 stuck_run_holds(N, 1, ((0, 2), (1, 0), (2, 1)))]
+        self.assertEqual(repr(shown), "[None, ((0, 1), (1, 2), (2, 0)), None, True, True]")
+
+    def test_rising(self):
+        shown = rising((3, ((0, 1), (1, 2)), ((None, 0, 0), (None, None, 1), (None, None, None))))
+        self.assertEqual(repr(shown), "(0, 1)")
+
+
+class SectionEleven(unittest.TestCase):
+    def test_links(self):
+        shown = [can_stick(()), can_stick((), reads=1), can_stick((("answer", "read"), ("answer", "write")))]
+        self.assertEqual(repr(shown), "[True, False, False]")
+
+    def test_orders(self):
+        W = ("tree", (), (("device", "p", ()), ("device", "c", ()), ("device", "d", ()), ("device", "f", ())))
+        shown = [forbidden(W, "p", "c", "d", "f"), forbidden(W, "p", "c", "c", "f"), forbidden(W, "p", "c", "p", "f")]
+        self.assertEqual(repr(shown), "[(('read', 'write'),), (('answer', 'write'),), ()]")
 
 
 if __name__ == "__main__":

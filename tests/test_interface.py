@@ -4,7 +4,8 @@ import inspect
 import unittest
 
 from buswindows import (
-    boards, bounds, choices, covers, errors, moves, placings, requests, rooms, trees, walking, windows,
+    boards, bounds, channels, choices, covers, errors, groups, links, moves, orders, placings, requests, rooms, trees,
+    walking, windows,
 )
 
 T = ("tree", (), (("device", "a", (("far", 16), ("near", 16))), ("bridge", "b", (), (None,))))
@@ -48,7 +49,34 @@ FUNCTIONS = {
     },
     boards: {"program": "(write, tree, settings)", "Board": "(tree, *, numbers=0)"},
     walking: {"walk": "(read, write)"},
+    groups: {
+        "may_hit": "(tree, one, other)", "hit_shown": "(tree, one, other)",
+        "hit_holds": "(tree, one, other, value)", "groups": "(tree)", "chain": "(tree, one, other)",
+        "chain_holds": "(tree, one, other, value)",
+    },
+    channels: {
+        "net_error": "(value)", "followers": "(net)", "rising": "(net)", "rising_holds": "(net, value)",
+        "ring": "(net)", "ring_holds": "(net, value)", "stuck_run": "(net, places)",
+        "stuck_run_holds": "(net, places, value)", "Traffic": "(net, *, places=1)",
+    },
+    links: {
+        "Link": "(rules, *, writes=1, reads=2, answers=1)", "can_stick": "(rules, *, reads=2, answers=1)",
+        "sticking_run": "(rules, *, reads=2, answers=1)",
+        "sticking_run_holds": "(rules, value, *, reads=2, answers=1)",
+    },
+    orders: {"forbidden": "(tree, producer, consumer, data, flag)"},
 }
+
+# The methods of a class with their arguments, and its properties.
+METHODS = {
+    boards.Board: {"read": "(self, bus, slot, index)", "write": "(self, bus, slot, index, value)",
+                   "settings": "(self)"},
+    channels.Traffic: {"send": "(self, station, goal)", "step": "(self, channel)", "is_stuck": "(self)",
+                       "drain": "(self)", "__len__": "(self)", "__eq__": "(self, other)"},
+    links.Link: {"send": "(self, direction, kind)", "leave": "(self, direction, place)",
+                 "queue": "(self, direction)", "drain": "(self)", "__len__": "(self)"},
+}
+PROPERTIES = {channels.Traffic: ("queues", "arrived")}
 
 
 class Interface(unittest.TestCase):
@@ -59,6 +87,19 @@ class Interface(unittest.TestCase):
                     function = getattr(module, name)
                     self.assertEqual(function.__module__, module.__name__)
                     self.assertEqual(str(inspect.signature(function)), arguments)
+
+    def test_methods_stand_in_their_class_with_their_arguments(self):
+        for owner, methods in METHODS.items():
+            for name, arguments in methods.items():
+                with self.subTest(name=name):
+                    self.assertEqual(str(inspect.signature(vars(owner)[name])), arguments)
+
+    def test_properties_stand_in_their_class_and_are_only_read(self):
+        for owner, names in PROPERTIES.items():
+            for name in names:
+                with self.subTest(name=name):
+                    self.assertIsInstance(vars(owner)[name], property)
+                    self.assertIsNone(vars(owner)[name].fset)
 
     def test_errors_stand_in_their_file(self):
         for name, item in vars(errors).items():
@@ -117,6 +158,28 @@ class Interface(unittest.TestCase):
         ):
             self.assertIs(type(value), kind)
         self.assertIsNone(boards.program(board.write, T, board.settings()))
+
+    def test_kinds_of_results_about_groups_channels_and_links(self):
+        net = (2, ((0, 1),), ((None, 0), (None, None)))
+        round_net = (3, ((0, 1), (1, 2), (2, 0)), ((None, 0, 0), (1, None, 1), (2, 2, None)))
+        traffic = channels.Traffic(net)
+        link = links.Link(())
+        for value, kind in (
+            (groups.may_hit(T, "a", "a"), bool), (groups.hit_holds(T, "a", "a", None), bool),
+            (groups.chain_holds(T, "a", "a", ()), bool), (groups.groups(T), tuple), (groups.chain(T, "a", "a"), tuple),
+            (channels.net_error(None), tuple), (channels.followers(net), tuple), (channels.rising(net), tuple),
+            (channels.ring(round_net), tuple), (channels.stuck_run(round_net, 1), tuple),
+            (channels.rising_holds(net, (0,)), bool), (channels.rising_holds(net, None), bool),
+            (channels.ring_holds(round_net, channels.ring(round_net)), bool), (channels.ring_holds(net, ()), bool),
+            (channels.stuck_run_holds(net, 1, ()), bool), (traffic.send(0, 1), type(None)), (traffic.step(0), type(None)),
+            (traffic.queues, tuple), (traffic.arrived, int), (traffic.is_stuck(), bool), (traffic.drain(), int),
+            (len(traffic), int), (link.send("up", "read"), type(None)), (link.leave("up", 0), type(None)),
+            (link.queue("up"), tuple), (link.drain(), int), (links.can_stick(()), bool),
+            (links.can_stick((), reads=1), bool), (links.sticking_run(()), tuple),
+            (links.sticking_run_holds((), ()), bool), (links.sticking_run_holds((), None), bool),
+            (orders.forbidden(T, None, None, None, None), tuple),
+        ):
+            self.assertIs(type(value), kind)
 
 
 if __name__ == "__main__":

@@ -60,7 +60,7 @@ def _comes_to(net, station, goal):
     at = station
     # A way of more channels than there are stations comes to some station twice.
     for _ in range(stations):
-        if at == goal or table[at][goal] is None:
+        if table[at][goal] is None:
             return at == goal
         at = channels[table[at][goal]][1]
     return at == goal

@@ -123,11 +123,9 @@ def sticking_run(rules, *, reads=2, answers=1):
         return None
     calls = []
     for direction in DIRECTIONS:
+        # The answers to the first reads take all places, behind the read that needs one itself.
         calls.extend([("send", direction, "read")] * answers)
         calls.extend([("send", direction, kind) for kind in _holding(rules)])
-    # Then all places for answers are taken in both directions, each behind a read that needs one.
-    for direction in DIRECTIONS:
-        calls.extend([("leave", direction, 0)] * answers)
     return tuple(calls)
 
 

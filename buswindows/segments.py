@@ -51,6 +51,14 @@ def least_window(bridge, kind):
     return 1 << (max(below, GRAIN) - 1).bit_length()
 
 
+def room_above(rooms, path, kind, blocks):
+    """Return the room for what stands of a kind on a segment, where blocks has the windows of the bridge above it."""
+    if path == ():
+        return rooms[KINDS.index(kind)]
+    window = blocks.get((path, kind))
+    return () if window is None else (window,)
+
+
 def _keys_of(part):
     """Return what of a part has a block each: the indexes of its areas, or the kinds of its windows."""
     return list(range(len(part[2]))) if part[0] == "device" else list(KINDS)

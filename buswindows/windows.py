@@ -8,7 +8,7 @@ from buswindows.placings import (
 )
 from buswindows.rooms import is_block
 from buswindows.segments import (
-    KINDS, are_rows, blocks_at, least_window, rows_with, segment_paths, standing_on,
+    KINDS, are_rows, blocks_at, least_window, room_above, rows_with, segment_paths, standing_on,
 )
 from buswindows.trees import part_at, parts_in_order
 from buswindows.values import is_tuple_of, is_within
@@ -60,7 +60,7 @@ def assignment_holds(tree, rooms, value):
         return False
     blocks = blocks_at(tree, value)
     return all([
-        stand_apart(_room_above(stand, rooms, blocks), [blocks[place] for place in stand.places])
+        stand_apart(_room_of(stand, rooms, blocks), [blocks[place] for place in stand.places])
         for stand in _stands(tree)
     ])
 
@@ -81,7 +81,7 @@ def first_assignment(tree, rooms):
         raise NoAssignment(why)
     blocks = {}
     for stand in _stands(tree):
-        _set_blocks(blocks, stand, first_placing(_room_above(stand, rooms, blocks), stand.sizes))
+        _set_blocks(blocks, stand, first_placing(_room_of(stand, rooms, blocks), stand.sizes))
     return rows_with(tree, blocks)
 
 
@@ -97,7 +97,7 @@ def assignment_at(tree, rooms, index):
         raise NoIndex(index)
     blocks = {}
     for stand, digit in zip(_stands(tree), digits_of(index, counts)):
-        _set_blocks(blocks, stand, placing_at(_room_above(stand, rooms, blocks), stand.sizes, digit))
+        _set_blocks(blocks, stand, placing_at(_room_of(stand, rooms, blocks), stand.sizes, digit))
     return rows_with(tree, blocks)
 
 
@@ -105,7 +105,7 @@ def assignment_index(tree, rooms, assignment):
     """Return the number of an assignment with least windows."""
     blocks = blocks_at(tree, assignment)
     digits = [
-        placing_index(_room_above(stand, rooms, blocks), stand.sizes, tuple([blocks[place] for place in stand.places]))
+        placing_index(_room_of(stand, rooms, blocks), stand.sizes, tuple([blocks[place] for place in stand.places]))
         for stand in _stands(tree)
     ]
     return number_of(digits, _counts(tree, rooms))
@@ -120,12 +120,9 @@ def _stands(tree):
     return stands
 
 
-def _room_above(stand, rooms, blocks):
-    """Return the room in which a stand has its blocks, where blocks has the windows of the bridge above it."""
-    if stand.path == ():
-        return rooms[KINDS.index(stand.kind)]
-    window = blocks.get((stand.path, stand.kind))
-    return () if window is None else (window,)
+def _room_of(stand, rooms, blocks):
+    """Return the room in which a stand has its blocks."""
+    return room_above(rooms, stand.path, stand.kind, blocks)
 
 
 def _set_blocks(blocks, stand, placing):

@@ -1,13 +1,17 @@
-"""The examples of the document, sections 1 to 11."""
+"""The examples of the document, sections 1 to 13."""
 
 import unittest
 
 from buswindows.boards import Board, program
 from buswindows.channels import followers, net_error, ring_holds, rising, stuck_run_holds
 from buswindows.choices import best_sizes, kept
+from buswindows.consoles import Console
 from buswindows.covers import widened
+from buswindows.errors import BadText
 from buswindows.groups import chain, groups, may_hit
+from buswindows.hot import LoggedHotMachine
 from buswindows.links import can_stick
+from buswindows.machines import Machine
 from buswindows.moves import makes_room_holds, moved, staying
 from buswindows.orders import forbidden
 from buswindows.placings import count_placings, first_placing, placing_at, reason
@@ -15,6 +19,7 @@ from buswindows.requests import follow, reached
 from buswindows.rooms import (
     address_at, address_index, addresses_in, capacity, common, room_error, room_of, stretch, union, without,
 )
+from buswindows.texts import parse_room, parse_tree, tree_text
 from buswindows.trees import names_of, part_at, path_of, tree_error
 from buswindows.walking import walk
 from buswindows.windows import count_assignments, first_assignment, least_windows, refusal, wanted
@@ -144,6 +149,32 @@ class SectionEleven(unittest.TestCase):
         W = ("tree", (), (("device", "p", ()), ("device", "c", ()), ("device", "d", ()), ("device", "f", ())))
         shown = [forbidden(W, "p", "c", "d", "f"), forbidden(W, "p", "c", "c", "f"), forbidden(W, "p", "c", "p", "f")]
         self.assertEqual(repr(shown), "[(('read', 'write'),), (('answer', 'write'),), ()]")
+
+
+class SectionTwelve(unittest.TestCase):
+    def test_machines(self):
+        machine = LoggedHotMachine(T, ROOMS)
+        shown = [str(machine), machine.unplug((0,)), machine.where("net"), machine.log,
+                 machine.plug((0,), ("device", "new", (("near", 8192),))), machine.where("new")]
+        self.assertEqual(
+            repr(shown), "['2 devices, 1 bridges, 3 areas, 0 edits', 1, ('net', ((0, 4096), (4096, 16))), "
+            "(('unplug', 1),), 2, ('new', ((8192, 8192),))]")
+
+
+class SectionThirteen(unittest.TestCase):
+    def test_texts(self):
+        shown = [tree_text(T), parse_room("0^5 64^4"), parse_tree(tree_text(T)) == T]
+        self.assertEqual(repr(shown), "['(disk[f20],east+s(net[n12,n4],-))', ((0, 32), (64, 16)), True]")
+        with self.assertRaises(BadText) as caught:
+            parse_tree("(a[f04])")
+        self.assertEqual(caught.exception.index, 5)
+
+    def test_consoles(self):
+        console = Console(Machine(T, ROOMS))
+        shown = [console.execute("ask 4100"), console.execute("where east"), console.execute("unplug 0"),
+                 console.execute("unplug 0"), console.execute("unplug  0")]
+        self.assertEqual(
+            repr(shown), "['down:east hit:net:1', '- 0^13', 'ok 1', 'error Empty', 'unknown command']")
 
 
 if __name__ == "__main__":

@@ -146,6 +146,12 @@ class HitShown(unittest.TestCase):
             self.assertIs(hit_holds(whole, "one", "two", hit_shown(whole, "one", "two")), True)
             self.assertIsNone(hit_shown(whole, "two", "one"))
 
+    def test_the_last_address(self):
+        whole = tree(device("one"), device("two", ("far", 16)))
+        settings = (("one", ()), ("two", ((2 ** 48 - 16, 16),)))
+        self.assertIs(hit_holds(whole, "one", "two", (settings, 2 ** 48 - 1)), True)
+        self.assertIs(hit_holds(whole, "one", "two", (settings, 2 ** 48)), False)
+
     def test_other_values_do_not_hold(self):
         settings, address = hit_shown(W, "a", "g")
         self.assertIs(hit_holds(W, "a", "g", (settings, address)), True)

@@ -4,8 +4,8 @@ import inspect
 import unittest
 
 from buswindows import (
-    boards, bounds, channels, choices, covers, errors, groups, links, moves, orders, placings, requests, rooms, trees,
-    walking, windows,
+    boards, bounds, channels, choices, consoles, covers, errors, groups, hot, links, machines, moves, orders, placings,
+    requests, rooms, texts, trees, walking, windows,
 )
 
 T = ("tree", (), (("device", "a", (("far", 16), ("near", 16))), ("bridge", "b", (), (None,))))
@@ -65,6 +65,14 @@ FUNCTIONS = {
         "sticking_run_holds": "(rules, value, *, reads=2, answers=1)",
     },
     orders: {"forbidden": "(tree, producer, consumer, data, flag)"},
+    machines: {"Machine": "(tree, rooms)"},
+    hot: {
+        "HotMachine": "(tree, rooms)", "LoggedMachine": "(tree, rooms)", "LoggedHotMachine": "(tree, rooms)",
+    },
+    texts: {
+        "room_text": "(room)", "tree_text": "(tree)", "parse_room": "(text)", "parse_tree": "(text)",
+    },
+    consoles: {"Console": "(machine)"},
 }
 
 # The methods of a class with their arguments, and its properties.
@@ -75,8 +83,22 @@ METHODS = {
                        "drain": "(self)", "__len__": "(self)", "__eq__": "(self, other)"},
     links.Link: {"send": "(self, direction, kind)", "leave": "(self, direction, place)",
                  "queue": "(self, direction)", "drain": "(self)", "__len__": "(self)"},
+    machines.Machine: {
+        "plug": "(self, path, part)", "unplug": "(self, path)", "mark": "(self, name, marks)",
+        "reserve": "(self, block)", "release": "(self, block)", "undo": "(self)",
+        "run": "(self, edits, *, on_step=None)", "follow": "(self, origin, address)", "where": "(self, name)",
+        "edits": "(self)", "tree_at": "(self, version)", "copy": "(self)", "__len__": "(self)", "__str__": "(self)",
+        "__eq__": "(self, other)",
+    },
+    hot.HotMachine: {"make_way": "(self, path, kind, size)", "settle": "(self)"},
+    consoles.Console: {"execute": "(self, line)"},
 }
-PROPERTIES = {channels.Traffic: ("queues", "arrived")}
+PROPERTIES = {
+    channels.Traffic: ("queues", "arrived"),
+    machines.Machine: ("tree", "rooms", "reserved", "free", "assignment", "version"),
+    hot.LoggedMachine: ("log",),
+    consoles.Console: ("history",),
+}
 
 
 class Interface(unittest.TestCase):
@@ -100,6 +122,10 @@ class Interface(unittest.TestCase):
                 with self.subTest(name=name):
                     self.assertIsInstance(vars(owner)[name], property)
                     self.assertIsNone(vars(owner)[name].fset)
+
+    def test_the_class_method_stands_in_its_class(self):
+        self.assertIsInstance(vars(machines.Machine)["is_edit"], classmethod)
+        self.assertEqual(str(inspect.signature(machines.Machine.is_edit)), "(value)")
 
     def test_errors_stand_in_their_file(self):
         for name, item in vars(errors).items():
@@ -178,6 +204,24 @@ class Interface(unittest.TestCase):
             (links.can_stick((), reads=1), bool), (links.sticking_run(()), tuple),
             (links.sticking_run_holds((), ()), bool), (links.sticking_run_holds((), None), bool),
             (orders.forbidden(T, None, None, None, None), tuple),
+        ):
+            self.assertIs(type(value), kind)
+
+    def test_kinds_of_results_of_machines_texts_and_consoles(self):
+        machine = hot.LoggedHotMachine(T, ROOMS)
+        console = consoles.Console(machine)
+        for value, kind in (
+            (machine.is_edit(("settle",)), bool), (machine.is_edit(None), bool), (machine.mark("b", ("strict",)), int),
+            (machine.plug((1, 0), ("device", "c", ())), int), (machine.unplug((1, 0)), int), (machine.undo(), int),
+            (machine.run([]), int), (machine.settle(), int), (machine.make_way((), "far", 16), int),
+            (machine.unplug((0,)), int), (machine.reserve((0, 16)), int), (machine.release((0, 16)), int),
+            (machine.tree, tuple), (machine.rooms, tuple), (machine.reserved, tuple), (machine.free, tuple),
+            (machine.assignment, tuple), (machine.version, int), (machine.follow(None, 0), tuple),
+            (machine.where("b"), tuple), (machine.edits(), tuple), (machine.tree_at(0), tuple),
+            (machine.copy(), hot.LoggedHotMachine), (len(machine), int), (str(machine), str),
+            (machine == machine.copy(), bool), (machine.log, tuple), (texts.room_text(()), str),
+            (texts.tree_text(T), str), (texts.parse_room("-"), tuple), (texts.parse_tree("()"), tuple),
+            (console.execute("undo"), str), (console.execute(None), str), (console.history, tuple),
         ):
             self.assertIs(type(value), kind)
 

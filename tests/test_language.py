@@ -194,6 +194,24 @@ class Language(unittest.TestCase):
             self.assertIsNone(re.search(r"\b(" + "|".join(WORDS) + r")\b", code), name)
             self.assertIsNone(re.search(r"dataclass|overload|contextmanager|_wall|_WallAttr", code), name)
 
+    def test_properties_have_names_of_their_own(self):
+        names, others = set(), set()
+        for place, node in nodes(ast.FunctionDef):
+            words = [decorator.id for decorator in node.decorator_list]
+            self.assertIn(words, ([], ["property"], ["classmethod"]), place)
+            (names if words == ["property"] else others).add(node.name)
+        for _, node in nodes(ast.Attribute):
+            if isinstance(node.ctx, ast.Store):
+                others.add(node.attr)
+        self.assertTrue(names)
+        self.assertEqual(names & others, set())
+
+    def test_what_is_done_at_last_is_simple(self):
+        for place, node in nodes(ast.Try):
+            for row in node.finalbody:
+                self.assertIsInstance(row, ast.Assign, place)
+                self.assertIsInstance(row.value, (ast.Name, ast.Attribute, ast.Constant), place)
+
     def test_handlers_name_their_errors(self):
         for place, node in nodes(ast.ExceptHandler):
             self.assertIsNotNone(node.type, place)

@@ -257,6 +257,10 @@ class Sticking(unittest.TestCase):
         for rules in ALL_RULES:
             self.assertEqual(can_stick(rules), can_stick(rules, reads=2, answers=1))
             self.assertEqual(sticking_run(rules), sticking_run(rules, reads=2, answers=1))
+            self.assertEqual(can_stick(rules, answers=2), False)
+            self.assertIsNone(sticking_run(rules, answers=2))
+            self.assertEqual(can_stick(rules, reads=1), False)
+            self.assertIsNone(sticking_run(rules, reads=1))
             if can_stick(rules):
                 self.assertIs(sticking_run_holds(rules, sticking_run(rules)), True)
 
@@ -296,10 +300,13 @@ class Sticking(unittest.TestCase):
                 for item in range(3):
                     call = run[at][:item] + (value,) + run[at][item + 1:]
                     self.assertIs(sticking_run_holds((), run[:at] + (call,) + run[at + 1:]), False)
+        # Whatever leaves before, what is left in the end is the same.
+        first = run + (("leave", run[-1][1], 0), ("leave", run[0][1], 0))
+        self.assertIs(sticking_run_holds((), first), True)
         for call in (list(run[0]), run[0] + (None,), run[0][:2], ("drain", "down", 0), ("queue", "down", "read"),
                      ("send", "down", "answer"), ("leave", "down", 0), ("send", "left", "read")):
             self.assertIs(sticking_run_holds((), (call,) + run), False)
-        self.assertIs(sticking_run_holds((), run[:-1] + (("leave", run[-1][1], False),)), False)
+        self.assertIs(sticking_run_holds((), run + (("leave", run[-1][1], False),)), False)
         # Whatever can be sent once it is stuck leaves it so.
         self.assertIs(sticking_run_holds((), run + (("send", "down", "write"),)), True)
 

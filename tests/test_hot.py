@@ -469,6 +469,8 @@ class RandomCalls(unittest.TestCase):
                 self.assertEqual(told(getattr(machine, name), *arguments), answer, (name, arguments))
                 words[answer[0] if isinstance(answer, tuple) else name] = True
                 self.check(machine, mirror, name, before)
+                if name == "make_way" and isinstance(answer, int):
+                    self.check_way(machine, before, *arguments)
             if owner is LoggedHotMachine:
                 self.assertEqual(machine.log, tuple(mirror.log))
         self.assertEqual(set(words), {
@@ -494,6 +496,28 @@ class RandomCalls(unittest.TestCase):
             for index in range(len(part[2]) if part[0] == "device" else 0):
                 self.assertEqual(reached(machine.tree, machine.assignment, part[1], index),
                                  (machine.where(part[1])[1][index],))
+
+    def check_way(self, machine, before, path, kind, size):
+        """There is a free block, and only what stands on the segment and is smaller has moved, with all in it."""
+        behind, whole = self.blocks(machine), dict(walked(machine.tree)).get(path, machine.tree)
+        at = ("far", "near").index(kind)
+        room = (machine.where(whole[1])[1 + at],) if path else machine.free[at]
+        standing = [(part[1], at) for part in whole[-1] if part is not None and part[0] == "bridge"]
+        standing += [(part[1], index) for part in whole[-1] if part is not None and part[0] == "device"
+                     for index, (other, _) in enumerate(part[2]) if other == kind]
+        taken = [behind[key] for key in standing if key in behind]
+        self.assertGreater(capacity(without(room, room_of(taken)), size), 0)
+        offsets = {key: behind[key][0] - before[key][0] for key in before}
+        for key in standing:
+            if key in behind and behind[key][1] >= size:
+                self.assertEqual(offsets[key], 0)
+        for below, part in walked(machine.tree):
+            for key in [key for key in offsets if key[0] == part[1] and key not in standing and offsets[key]]:
+                # It goes with the window that stands on the segment and has it in it.
+                self.assertEqual(below[:len(path)], path)
+                above = dict(walked(machine.tree))[below[:len(path) + 1]][1]
+                self.assertEqual(offsets[key], offsets[(above, at)])
+                self.assertEqual((before[key][0] >= FAR), kind == "far")
 
     def test_equal_edits_make_equal_machines(self):
         for seed in range(12):

@@ -219,6 +219,7 @@ class Rings(unittest.TestCase):
         ):
             self.assertIs(ring_holds(N, wrong), False, wrong)
         self.assertIs(ring_holds(ring_net(2), ((0, 1), (1, 0))), False)
+        self.assertIs(ring_holds(EMPTY, ((-1, 0), (-1, 0))), False)
 
     def test_the_greatest_ring(self):
         self.assertEqual(sorted(channel for channel, _ in ring(ring_net(8))), list(range(8)))
